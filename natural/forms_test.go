@@ -7,8 +7,6 @@ import (
 	"gridmarket/natural"
 )
 
-// R2 and R3
-
 // call is a function of the package as a function of two lists, with the lists that it returns.
 type call struct {
 	name string
@@ -47,76 +45,7 @@ func calls() []call {
 	}
 }
 
-// within copies a into the middle of a longer array, so that writes beyond its length are seen.
-func within(a []uint32) (inside, whole []uint32) {
-	whole = slices.Repeat([]uint32{0xA5A5A5A5}, len(a)+6)
-	copy(whole[2:], a)
-	return whole[2 : 2+len(a)], whole
-}
-
-// spoil overwrites a list up to its capacity.
-func spoil(a []uint32) {
-	for i := range a[:cap(a)] {
-		a[:cap(a)][i] ^= 0x5A5A5A5A
-	}
-}
-
-// clones copies lists.
-func clones(lists [][]uint32) [][]uint32 {
-	var out [][]uint32
-	for _, l := range lists {
-		out = append(out, slices.Clone(l))
-	}
-	return out
-}
-
 func same(a, b [][]uint32) bool { return slices.EqualFunc(a, b, slices.Equal[[]uint32]) }
-
-// checkMemory does a call and then overwrites each list in turn; no other list may change.
-func checkMemory(t *testing.T, c call, a, b []uint32) {
-	t.Helper()
-	insideA, wholeA := within(a)
-	insideB, wholeB := within(b)
-	beforeA, beforeB := slices.Clone(wholeA), slices.Clone(wholeB)
-	results := c.do(insideA, insideB)
-	first, expected := clones(results), clones(results)
-	if !slices.Equal(wholeA, beforeA) || !slices.Equal(wholeB, beforeB) {
-		t.Errorf("%s(%v, %v) modifies an argument", c.name, a, b)
-	}
-	spoil(wholeA)
-	spoil(wholeB)
-	if !same(results, expected) {
-		t.Errorf("%s(%v, %v) returns the memory of an argument", c.name, a, b)
-	}
-	beforeA, beforeB = slices.Clone(wholeA), slices.Clone(wholeB)
-	for i := range results {
-		spoil(results[i])
-		expected[i] = slices.Clone(results[i])
-		if !same(results, expected) {
-			t.Errorf("%s(%v, %v) returns lists that share memory", c.name, a, b)
-		}
-	}
-	if !slices.Equal(wholeA, beforeA) || !slices.Equal(wholeB, beforeB) {
-		t.Errorf("%s(%v, %v) returns spare memory of an argument", c.name, a, b)
-	}
-	if again := c.do(slices.Clone(a), slices.Clone(b)); !same(again, first) {
-		t.Errorf("%s(%v, %v) returns %v at first and then %v", c.name, a, b, first, again)
-	}
-}
-
-func TestMemory(t *testing.T) {
-	for _, c := range calls() {
-		for _, a := range samples() {
-			for _, b := range samples() {
-				checkMemory(t, c, a, b)
-			}
-		}
-		s := source(13)
-		for range 200 {
-			checkMemory(t, c, s.list(12), s.list(8))
-		}
-	}
-}
 
 // Results depend on values only: zeros at the end of the arguments change nothing.
 func TestZerosAtTheEnd(t *testing.T) {
